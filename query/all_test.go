@@ -184,7 +184,7 @@ func TestAllPicks(t *testing.T) {
 
 // P10.2: the rows of a bag are asked one after the other: the first error is that of the first row that has one alone.
 func TestAllWheres(t *testing.T) {
-	// Rows that rise, whose numbers tell what a condition answers: below 10 false, below 20 null, below 30 true, below 40 a type error, and from then on an overflow.
+	// What the conditions answer of a row, by its number in the list: false, null, true, a type error and, where they add, an overflow.
 	v := where("c1 0 <")
 	cells := []api.Value{num(1), {}, num(-1), text("x")}
 	errs := []api.Errno{api.OK, api.OK, api.OK, api.ErrExprType, api.ErrExprOverflow}
@@ -194,14 +194,11 @@ func TestAllWheres(t *testing.T) {
 		var b, want, overB, overWant api.Bag
 		bad, overBad := api.OK, api.OK
 		for i, k := range l {
-			last := api.Value{}
-			add := num(0)
-			if k == 4 {
-				last, add = num(math.MinInt), num(-1)
-			} else {
-				last = cells[k]
+			// Row numbers rise, so that the rows do, whatever they answer.
+			c := api.Count{Row: api.Row{num(i), num(math.MinInt), num(-1)}, N: i - 9}
+			if k < len(cells) {
+				c.Row[1], c.Row[2] = cells[k], num(0)
 			}
-			c := api.Count{Row: api.Row{num(i), last, add}, N: i - 9}
 			overB = append(overB, c)
 			if overBad == api.OK {
 				overBad = errs[k]
