@@ -7,11 +7,12 @@ import (
 
 	"levee/api"
 	"levee/bag"
+	"levee/sample"
 )
 
 // P10.1: the chapter's example.
 func TestExample(t *testing.T) {
-	expectProduct(t, on(0, 0), held("(1)*2"), held("(1)*3"), held("(1, 1)*6"), api.OK)
+	expectProduct(t, on(0, 0), sample.Bag("(1)*2"), sample.Bag("(1)*3"), sample.Bag("(1, 1)*6"), api.OK)
 }
 
 // P10.1: without With, from is the answer, whatever On and with are.
@@ -19,14 +20,14 @@ func TestProductOfOne(t *testing.T) {
 	for _, s := range []string{"", "()", "()*-1", "(1)", "(1)*-3 (1, 2)*1000000000 (null)", "(null, null) (true) (false)*2 ('a')"} {
 		for _, with := range []string{"", "(1)", "()*-2 (1, 1)"} {
 			for _, at := range [][2]int{{}, {0, 1}, {-1, math.MaxInt}} {
-				expectProduct(t, api.View{On: at}, held(s), held(with), held(s), api.OK)
+				expectProduct(t, api.View{On: at}, sample.Bag(s), sample.Bag(with), sample.Bag(s), api.OK)
 			}
 		}
 	}
 	// Neither many rows nor long ones are too many without a join.
 	expectProduct(t, api.View{}, pairsOf(1, 10001), nil, pairsOf(1, 10001), api.OK)
 	expectProduct(t, api.View{}, pairsOf(1, 200), pairsOf(1, 200), pairsOf(1, 200), api.OK)
-	long := api.Bag{{Row: equal(num(1), 40), N: billion}}
+	long := api.Bag{{Row: equal(sample.Num(1), 40), N: sample.Billion}}
 	expectProduct(t, api.View{}, long, long, long, api.OK)
 }
 
@@ -94,7 +95,7 @@ func TestJoins(t *testing.T) {
 		{0, 0, "(1) (1, 1)", "(1)*-1 (1, 1)", "(1, 1)*-1 (1, 1, 1, 1)"},
 		{0, 0, "(1)*3 (1, 1)*-2", "(1)*6 (1, 1)*4", "(1, 1)*18 (1, 1, 1, 1)*-8"},
 	} {
-		expectProduct(t, on(c.left, c.right), held(c.from), held(c.with), held(c.want), api.OK)
+		expectProduct(t, on(c.left, c.right), sample.Bag(c.from), sample.Bag(c.with), sample.Bag(c.want), api.OK)
 	}
 }
 
@@ -126,13 +127,13 @@ func TestPairs(t *testing.T) {
 
 // P10.1: what counts is pairs, neither their counts nor the rows that they make.
 func TestPairsNotRows(t *testing.T) {
-	expectProduct(t, on(0, 0), held("(1)*20000"), held("(1)*20000"), held("(1, 1)*400000000"), api.OK)
+	expectProduct(t, on(0, 0), sample.Bag("(1)*20000"), sample.Bag("(1)*20000"), sample.Bag("(1, 1)*400000000"), api.OK)
 	// Rows of ones and twos that begin with a one: a joined row is made by many pairs.
 	var begin []api.Bag
-	rows := []api.Row{{num(1)}}
+	rows := []api.Row{{sample.Num(1)}}
 	for i := 0; i < len(rows) && len(rows) < 127; i++ {
 		for _, n := range []int{1, 2} {
-			rows = append(rows, append(slices.Clone(rows[i]), num(n)))
+			rows = append(rows, append(slices.Clone(rows[i]), sample.Num(n)))
 		}
 	}
 	for _, r := range rows {
@@ -153,7 +154,7 @@ func TestPairsNotRows(t *testing.T) {
 	expectMany(t, on(0, 0), left[:101], left[:100])
 	expectMany(t, on(0, 0), left[:100], left[:101])
 	// Though half of them cancel the others.
-	signed := copied(left[:101])
+	signed := sample.Copy(left[:101])
 	for i := range signed {
 		signed[i].N = i%2*2 - 1
 	}
@@ -163,47 +164,47 @@ func TestPairsNotRows(t *testing.T) {
 // P10.1: how long a joined row may be.
 func TestLength(t *testing.T) {
 	for _, c := range []struct{ left, right int }{{1, 39}, {39, 1}, {20, 20}, {2, 38}, {1, 1}, {19, 20}} {
-		from, with := one(equal(num(1), c.left), 1), one(equal(num(1), c.right), 2)
-		expectProduct(t, on(0, 0), from, with, one(equal(num(1), c.left+c.right), 2), api.OK)
+		from, with := one(equal(sample.Num(1), c.left), 1), one(equal(sample.Num(1), c.right), 2)
+		expectProduct(t, on(0, 0), from, with, one(equal(sample.Num(1), c.left+c.right), 2), api.OK)
 	}
 	for _, c := range []struct{ left, right int }{{1, 40}, {40, 1}, {21, 20}, {20, 21}, {40, 40}, {2, 39}} {
-		from, with := one(equal(num(1), c.left), 1), one(equal(num(1), c.right), 2)
+		from, with := one(equal(sample.Num(1), c.left), 1), one(equal(sample.Num(1), c.right), 2)
 		expectMany(t, on(0, 0), from, with)
 		// One such row among others, wherever it stands.
-		expectMany(t, on(0, 0), bag.Plus(from, held("(1) (2) (0)")), bag.Plus(with, held("(0) (1) (3)")))
-		expectMany(t, on(0, 0), bag.Plus(from, held("(3) (2)")), bag.Plus(with, held("(3) (4)")))
+		expectMany(t, on(0, 0), bag.Plus(from, sample.Bag("(1) (2) (0)")), bag.Plus(with, sample.Bag("(0) (1) (3)")))
+		expectMany(t, on(0, 0), bag.Plus(from, sample.Bag("(3) (2)")), bag.Plus(with, sample.Bag("(3) (4)")))
 		// Without a partner, no row is too long.
-		expectProduct(t, on(0, 0), bag.Plus(from, held("(3) (2)")), bag.Plus(one(equal(num(7), c.right), 2), held("(3) (4)")), held("(3, 3)"), api.OK)
+		expectProduct(t, on(0, 0), bag.Plus(from, sample.Bag("(3) (2)")), bag.Plus(one(equal(sample.Num(7), c.right), 2), sample.Bag("(3) (4)")), sample.Bag("(3, 3)"), api.OK)
 	}
 	// Two rows that are too long are no less so where they would cancel each other.
-	from := bag.Plus(one(equal(num(1), 20), 1), one(equal(num(1), 21), -1))
-	expectMany(t, on(0, 0), from, bag.Plus(one(equal(num(1), 20), 1), one(equal(num(1), 21), 1)))
+	from := bag.Plus(one(equal(sample.Num(1), 20), 1), one(equal(sample.Num(1), 21), -1))
+	expectMany(t, on(0, 0), from, bag.Plus(one(equal(sample.Num(1), 20), 1), one(equal(sample.Num(1), 21), 1)))
 }
 
 // P10.1: the count of a pair.
 func TestPairCounts(t *testing.T) {
-	for _, c := range []struct{ left, right int }{{billion, 1}, {1, billion}, {32000, 31250}, {31250, 32000}, {billion / 2, 2}, {31622, 31622}, {999999999, 1}} {
+	for _, c := range []struct{ left, right int }{{sample.Billion, 1}, {1, sample.Billion}, {32000, 31250}, {31250, 32000}, {sample.Billion / 2, 2}, {31622, 31622}, {999999999, 1}} {
 		for _, s := range [][2]int{{1, 1}, {1, -1}, {-1, 1}, {-1, -1}} {
-			from, with := one(equal(num(1), 1), c.left*s[0]), one(equal(num(1), 1), c.right*s[1])
-			expectProduct(t, on(0, 0), from, with, one(equal(num(1), 2), c.left*c.right*s[0]*s[1]), api.OK)
+			from, with := one(equal(sample.Num(1), 1), c.left*s[0]), one(equal(sample.Num(1), 1), c.right*s[1])
+			expectProduct(t, on(0, 0), from, with, one(equal(sample.Num(1), 2), c.left*c.right*s[0]*s[1]), api.OK)
 		}
 	}
-	for _, c := range []struct{ left, right int }{{billion, 2}, {2, billion}, {52579, 19019}, {19019, 52579}, {500000001, 2}, {31623, 31623}, {billion, billion}, {1 << 29, 1 << 29}, {999999999, 2}} {
+	for _, c := range []struct{ left, right int }{{sample.Billion, 2}, {2, sample.Billion}, {52579, 19019}, {19019, 52579}, {500000001, 2}, {31623, 31623}, {sample.Billion, sample.Billion}, {1 << 29, 1 << 29}, {999999999, 2}} {
 		for _, s := range [][2]int{{1, 1}, {1, -1}, {-1, 1}, {-1, -1}} {
-			from, with := one(equal(num(1), 1), c.left*s[0]), one(equal(num(1), 1), c.right*s[1])
+			from, with := one(equal(sample.Num(1), 1), c.left*s[0]), one(equal(sample.Num(1), 1), c.right*s[1])
 			expectMany(t, on(0, 0), from, with)
 			// One such pair among others, wherever it stands.
-			expectMany(t, on(0, 0), bag.Plus(from, held("(0) (2)")), bag.Plus(with, held("(0) (2)")))
-			expectMany(t, on(0, 0), bag.Plus(from, held("(0) (2)")), bag.Plus(with, held("(3)")))
+			expectMany(t, on(0, 0), bag.Plus(from, sample.Bag("(0) (2)")), bag.Plus(with, sample.Bag("(0) (2)")))
+			expectMany(t, on(0, 0), bag.Plus(from, sample.Bag("(0) (2)")), bag.Plus(with, sample.Bag("(3)")))
 			// Two rows that have such counts, and no partners.
-			expectProduct(t, on(0, 0), from, bag.Plus(one(equal(num(2), 1), c.right)), nil, api.OK)
+			expectProduct(t, on(0, 0), from, bag.Plus(one(equal(sample.Num(2), 1), c.right)), nil, api.OK)
 		}
 	}
 }
 
 // P10.1: the count of a joined row that several pairs make: rows of nothing but ones, of which the row of n ones is made by each left row with the right row of as many ones as are left.
 func TestRowCounts(t *testing.T) {
-	const half = billion / 2
+	const half = sample.Billion / 2
 	for _, c := range []struct{ left, right []int }{
 		{[]int{1, 1}, []int{1, 1}},
 		{[]int{half, half}, []int{1, 1}},
@@ -214,38 +215,38 @@ func TestRowCounts(t *testing.T) {
 		{[]int{-half, -half}, []int{1, 1}},
 		{[]int{-half, -half - 1}, []int{1, 1}},
 		{[]int{half, -half - 1}, []int{-1, 1}},
-		{[]int{billion - 1, 1}, []int{1, 1}},
-		{[]int{billion, 1}, []int{1, 1}},
-		{[]int{billion, -1}, []int{1, 1}},
-		{[]int{billion, billion}, []int{1, 1}},
+		{[]int{sample.Billion - 1, 1}, []int{1, 1}},
+		{[]int{sample.Billion, 1}, []int{1, 1}},
+		{[]int{sample.Billion, -1}, []int{1, 1}},
+		{[]int{sample.Billion, sample.Billion}, []int{1, 1}},
 		// Counts that cancel each other, as great ones as there are.
 		{[]int{1, 1}, []int{1, -1}},
 		{[]int{1, -1}, []int{1, 1}},
 		{[]int{2, 3}, []int{4, -6}},
-		{[]int{billion, billion}, []int{1, -1}},
-		{[]int{billion, -billion}, []int{1, 1}},
-		{[]int{billion, -billion}, []int{1, -1}},
-		{[]int{1, 1}, []int{billion, -billion}},
+		{[]int{sample.Billion, sample.Billion}, []int{1, -1}},
+		{[]int{sample.Billion, -sample.Billion}, []int{1, 1}},
+		{[]int{sample.Billion, -sample.Billion}, []int{1, -1}},
+		{[]int{1, 1}, []int{sample.Billion, -sample.Billion}},
 		{[]int{1, 0, 1}, []int{1, 0, -1}},
 		// All but the shortest and the longest row.
 		{[]int{1, 1, 1, 1, 1}, []int{1, -1}},
 		{[]int{1, -1}, []int{1, 1, 1, 1, 1}},
 		// The whole sum alone counts, in whatever order the pairs come: three of them make the row of four ones.
-		{[]int{half, billion, -half}, []int{1, 1, 1}},
+		{[]int{half, sample.Billion, -half}, []int{1, 1, 1}},
 		{[]int{half, half, half}, []int{1, 1, -1}},
 		{[]int{half, half, half}, []int{-1, 1, 1}},
 		{[]int{half, -half, half}, []int{1, 1, 1}},
 		{[]int{half, half, half}, []int{1, 1, 1}},
 		{[]int{half, half, 0}, []int{1, 1, 1}},
 		{[]int{half, half, -half}, []int{1, 1, 1}},
-		{[]int{0, billion, -billion, billion}, []int{1, 1, 1}},
-		{[]int{billion, -billion, billion}, []int{1, 1, 1}},
-		{[]int{-billion, billion, -billion}, []int{1, 1, 1}},
-		{[]int{billion, -billion, billion, 1}, []int{1, 1, 1, 1}},
-		{[]int{billion, -billion, billion + 1}, []int{1, 1, 1}},
+		{[]int{0, sample.Billion, -sample.Billion, sample.Billion}, []int{1, 1, 1}},
+		{[]int{sample.Billion, -sample.Billion, sample.Billion}, []int{1, 1, 1}},
+		{[]int{-sample.Billion, sample.Billion, -sample.Billion}, []int{1, 1, 1}},
+		{[]int{sample.Billion, -sample.Billion, sample.Billion, 1}, []int{1, 1, 1, 1}},
+		{[]int{sample.Billion, -sample.Billion, sample.Billion + 1}, []int{1, 1, 1}},
 		// A pair whose count is too great is not mended by one that takes it back.
-		{[]int{1, 2}, []int{billion, -billion}},
-		{[]int{2, 2}, []int{billion, -billion}},
+		{[]int{1, 2}, []int{sample.Billion, -sample.Billion}},
+		{[]int{2, 2}, []int{sample.Billion, -sample.Billion}},
 	} {
 		expectOnes(t, c.left, c.right)
 		slices.Reverse(c.left)
@@ -262,10 +263,10 @@ func expectOnes(t *testing.T, left, right []int) {
 	for i, a := range left {
 		for j, b := range right {
 			sums[i+j+2] += a * b
-			many = many || a*b > billion || a*b < -billion
+			many = many || a*b > sample.Billion || a*b < -sample.Billion
 		}
 	}
-	if slices.Max(sums) > billion || slices.Min(sums) < -billion {
+	if slices.Max(sums) > sample.Billion || slices.Min(sums) < -sample.Billion {
 		many = true
 	}
 	from, with := onesOf(append([]int{0}, left...)), onesOf(append([]int{0}, right...))
@@ -313,7 +314,7 @@ func TestWhere(t *testing.T) {
 		{"c0 9223372036854775807 + 0 <", "(-1)*-1 (0)*2", ""},
 		{"c2 5 =", "(1, 2, 5) (2, 2, 5, 9)*-4", "(1, 2, 5) (2, 2, 5, 9)*-4"},
 	} {
-		expectWhere(t, where(c.where), held(c.b), held(c.want), api.OK)
+		expectWhere(t, where(c.where), sample.Bag(c.b), sample.Bag(c.want), api.OK)
 	}
 }
 
@@ -348,13 +349,13 @@ func TestWhereErrors(t *testing.T) {
 		{"true true", "(1)", api.ErrExprType},
 		{"true not not 1 not", "(1) (2)", api.ErrExprType},
 	} {
-		expectWhere(t, where(c.where), held(c.b), nil, c.want)
+		expectWhere(t, where(c.where), sample.Bag(c.b), nil, c.want)
 	}
 	for i, e := range []api.Expr{
 		{{Op: api.EOps}}, {{Op: -1}}, {{Op: api.ECol, N: -1}}, {{Op: api.ECol, N: math.MaxInt}}, {{Op: api.ECol, N: math.MinInt}},
 		{{Op: api.EConst, V: api.Value{Kind: 9}}}, {{Op: api.EConst, V: api.Value{Kind: api.Bool, N: 2}}},
 	} {
-		expectWhere(t, api.View{Where: e}, held("(true)"), nil, api.ErrExprType)
+		expectWhere(t, api.View{Where: e}, sample.Bag("(true)"), nil, api.ErrExprType)
 		expectWhere(t, api.View{Where: e}, nil, nil, api.OK)
 		if t.Failed() {
 			t.Fatal("condition", i)
@@ -362,8 +363,8 @@ func TestWhereErrors(t *testing.T) {
 	}
 	// A hundred steps are not too many; one more is an error, but only if there is a row.
 	true100 := append(api.Expr{{Op: api.EConst, V: api.Value{Kind: api.Bool}}}, slices.Repeat(api.Expr{{Op: api.ENot}}, 99)...)
-	expectWhere(t, api.View{Where: true100}, held("(1)*-2"), held("(1)*-2"), api.OK)
-	expectWhere(t, api.View{Where: append(true100, true100[1:3]...)}, held("(1)"), nil, api.ErrArg)
+	expectWhere(t, api.View{Where: true100}, sample.Bag("(1)*-2"), sample.Bag("(1)*-2"), api.OK)
+	expectWhere(t, api.View{Where: append(true100, true100[1:3]...)}, sample.Bag("(1)"), nil, api.ErrArg)
 	expectWhere(t, api.View{Where: append(true100, true100[1:3]...)}, nil, nil, api.OK)
 }
 
@@ -371,9 +372,9 @@ func TestWhereErrors(t *testing.T) {
 func TestWhereAlone(t *testing.T) {
 	v := where("c0 2 <")
 	v.With, v.On, v.Pick, v.Group, v.Aggs = "w", [2]int{7, -7}, []int{-1, 99}, true, []api.Agg{{Fn: -1, Col: -1}}
-	expectWhere(t, v, held("(1)*2 (1, 5) (2)"), held("(1)*2 (1, 5)"), api.OK)
+	expectWhere(t, v, sample.Bag("(1)*2 (1, 5) (2)"), sample.Bag("(1)*2 (1, 5)"), api.OK)
 	v.Pick = make([]int, 100)
-	expectWhere(t, v, held("(1)*2 (1, 5) (2)"), held("(1)*2 (1, 5)"), api.OK)
+	expectWhere(t, v, sample.Bag("(1)*2 (1, 5) (2)"), sample.Bag("(1)*2 (1, 5)"), api.OK)
 	expectWhere(t, where(""), pairsOf(1, 20000), pairsOf(1, 20000), api.OK)
 }
 
@@ -420,20 +421,20 @@ func TestPick(t *testing.T) {
 		{[]int{0, math.MaxInt}, "(1)", ""},
 		{[]int{0}, "()*9", ""},
 	} {
-		expectPick(t, pick(c.pick...), held(c.b), held(c.want))
+		expectPick(t, pick(c.pick...), sample.Bag(c.b), sample.Bag(c.want))
 	}
 }
 
 // P10.2: how many picks there may be.
 func TestPicks(t *testing.T) {
-	b := held("(1)*2 (3, 4)*-5")
-	expectPick(t, pick(make([]int, 40)...), b, api.Bag{{Row: equal(num(1), 40), N: 2}, {Row: equal(num(3), 40), N: -5}})
-	expectPick(t, pick(slices.Repeat([]int{1}, 40)...), b, api.Bag{{Row: equal(num(4), 40), N: -5}})
+	b := sample.Bag("(1)*2 (3, 4)*-5")
+	expectPick(t, pick(make([]int, 40)...), b, api.Bag{{Row: equal(sample.Num(1), 40), N: 2}, {Row: equal(sample.Num(3), 40), N: -5}})
+	expectPick(t, pick(slices.Repeat([]int{1}, 40)...), b, api.Bag{{Row: equal(sample.Num(4), 40), N: -5}})
 	for _, n := range []int{41, 42, 80, 100000} {
 		expectPick(t, pick(make([]int, n)...), b, nil)
-		expectPick(t, pick(make([]int, n)...), held("()"), nil)
+		expectPick(t, pick(make([]int, n)...), sample.Bag("()"), nil)
 	}
-	long := api.Bag{{Row: equal(num(1), 40), N: 2}}
+	long := api.Bag{{Row: equal(sample.Num(1), 40), N: 2}}
 	all := make([]int, 40)
 	for i := range all {
 		all[i] = 39 - i
@@ -441,7 +442,7 @@ func TestPicks(t *testing.T) {
 	expectPick(t, pick(all...), long, long)
 	expectPick(t, pick(append(all, 0)...), long, nil)
 	expectPick(t, pick(append(all[:39], 40)...), long, nil)
-	expectPick(t, pick(39), long, held("(1)*2"))
+	expectPick(t, pick(39), long, sample.Bag("(1)*2"))
 }
 
 // P10.2: sums of counts in Pick.
@@ -468,26 +469,26 @@ func TestPickSums(t *testing.T) {
 		// A row that is left out has no count.
 		{"() (1)*1000000000", "(1)*1000000000"},
 	} {
-		expectPick(t, pick(0), held(c.b), held(c.want))
+		expectPick(t, pick(0), sample.Bag(c.b), sample.Bag(c.want))
 	}
-	expectPick(t, pick(1), held("(1)*1000000000 (2)*1000000000 (3, 1)*1000000000"), held("(1)*1000000000"))
+	expectPick(t, pick(1), sample.Bag("(1)*1000000000 (2)*1000000000 (3, 1)*1000000000"), sample.Bag("(1)*1000000000"))
 	// Many rows that become one.
-	expectPick(t, pick(0), pairsOf(1, 20000), held("(1)*20000"))
+	expectPick(t, pick(0), pairsOf(1, 20000), sample.Bag("(1)*20000"))
 }
 
 // P10.2: Pick looks at the picks and the rows alone.
 func TestPickAlone(t *testing.T) {
 	v := api.View{With: "w", On: [2]int{7, -7}, Where: api.Expr{{Op: -1}}, Pick: []int{1}, Group: true, Aggs: []api.Agg{{Fn: -1, Col: -1}}}
-	expectPick(t, v, held("(1, 5) (2, 5)*3"), held("(5)*4"))
+	expectPick(t, v, sample.Bag("(1, 5) (2, 5)*3"), sample.Bag("(5)*4"))
 }
 
 // Section Promises: a bag that is not valid, as each argument, leaves nothing, and is no error; not even where there would be one.
 func TestInvalid(t *testing.T) {
-	good := held("(1, 1) (2, 2) (3, 3)")
-	greats := []api.Bag{nil, good, held("(1)*1000000000 (2)*1000000000 (3)*1000000000"), pairsOf(1, 10001)}
-	for i, b := range invalidBags() {
+	good := sample.Bag("(1, 1) (2, 2) (3, 3)")
+	greats := []api.Bag{nil, good, sample.Bag("(1)*1000000000 (2)*1000000000 (3)*1000000000"), pairsOf(1, 10001)}
+	for i, b := range sample.Invalid() {
 		if bag.May(b) {
-			t.Fatalf("bag %d is valid: %s", i, shown(b))
+			t.Fatalf("bag %d is valid: %s", i, sample.Show(b))
 		}
 		for _, great := range greats {
 			expectProduct(t, on(0, 0), b, great, nil, api.OK)
