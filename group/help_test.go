@@ -1,23 +1,17 @@
 package group
 
 import (
-	"fmt"
 	"math"
 	"slices"
 	"testing"
 
 	"levee/api"
-	"levee/ddl"
 	"levee/sample"
 )
 
 // view is the view whose picks and aggregates s holds, as behind `pick`.
 func view(s string) api.View {
-	d, bad := ddl.Parse("view v from t pick " + s)
-	if bad != api.OK {
-		panic(fmt.Sprintf("%q: error %d", s, bad))
-	}
-	return d.View
+	return sample.Def("view v from t pick " + s).View
 }
 
 // grouped is a view that groups by these columns.

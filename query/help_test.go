@@ -1,12 +1,10 @@
 package query
 
 import (
-	"fmt"
 	"slices"
 	"testing"
 
 	"levee/api"
-	"levee/ddl"
 	"levee/sample"
 )
 
@@ -15,11 +13,7 @@ func on(left, right int) api.View { return api.View{With: "w", On: [2]int{left, 
 
 // where is a view with the condition that s holds.
 func where(s string) api.View {
-	d, bad := ddl.Parse("view v from t where [" + s + "] pick 0")
-	if bad != api.OK {
-		panic(fmt.Sprintf("%q: error %d", s, bad))
-	}
-	return api.View{Where: d.View.Where}
+	return api.View{Where: sample.Def("view v from t where [" + s + "] pick 0").View.Where}
 }
 
 func pick(l ...int) api.View { return api.View{Pick: l} }
